@@ -1,0 +1,1 @@
+"""Wallbooks: walls between rivals' papers."""
