@@ -1,9 +1,11 @@
-"""What several test files need: texts of books, odd values, and a strict check of errors."""
+"""What several test files need: texts of books, odd values, runs told by their words, and a strict check of errors."""
 
+import itertools
 import unittest
 
 from wallbooks.books import Book
 from wallbooks.fences import Fence, plain
+from wallbooks.runs import barred, meeting
 
 TEXT = "clients oil bank mill\nrivals oil mill\nkind hand\nlooks oil bank mill\nwrites oil bank mill"
 EIGHT = ("rail", "oil", "bank", "mill", "a", "zzzzzzzz", "ship", "coal")
@@ -48,6 +50,163 @@ def same(one, other):
     return one == other
 
 
+def some_book(rng, many, rivals=0.3, rights=0.6, kinds=None):
+    """A book of so many clients; rivals and rights are there with these chances."""
+    clients = tuple(rng.sample(EIGHT, many))
+    pairs = [pair for pair in itertools.combinations(clients, 2) if rng.random() < rivals]
+    names = rng.sample(("hand", "eye", "pen", "oil"), kinds or rng.randint(1, 4))
+    lots = [[tuple(client for client in clients if rng.random() < rights) for _ in "lw"] for _ in names]
+    return Book(text_of(clients, pairs, [(name, *both) for name, both in zip(names, lots)]))
+
+
+def some_fence(rng, book, share=0.5):
+    """A fence of the book; each pair is there with this chance."""
+    return Fence(book, tuple(pair for pair in plain(book).pairs if rng.random() < share))
+
+
+def row_of(many, last=2):
+    """A book of clients in a row, of which only the first and the last are rivals, and the fence of its steps.
+
+    One kind goes the steps, and another one looks at the last clients, so many.
+    """
+    clients = tuple("hgfedcba"[:many])
+    kinds = (("hand", clients[:-1], clients[1:]), ("eye", clients[-last:], ()))
+    book = Book(text_of(clients, ((clients[-1], clients[0]),), kinds))
+    return Fence(book, tuple(zip(clients, clients[1:])))
+
+
+def two_rows(one, other, looker=()):
+    """The book, and the fence, of two rows of clients of which the first ones are rivals, and both end at one client.
+
+    Each kind goes the steps of one row; who does not belong to either looks at these clients.
+    """
+    kinds = [("ones", one[:-1], one[1:]), ("others", other[:-1], other[1:]), ("looker", looker or one[-1:], ())]
+    clients = one + tuple(client for client in other if client not in one)
+    lots = [(kind, *(tuple(c for c in clients if c in lot) for lot in both)) for kind, *both in kinds]
+    book = Book(text_of(clients, ((one[0], other[0]),), lots))
+    return Fence(book, tuple(zip(one, one[1:])) + tuple(zip(other, other[1:])))
+
+
+def have_rivals(book, clients):
+    """Whether two of these clients are rivals."""
+    return any(pair in book.rivals for pair in itertools.permutations(clients, 2))
+
+
+def rights_of(book, staff):
+    """All deeds that the staff has the right to."""
+    return [(person, word, client) for person, kind in enumerate(staff)
+            for word, lot in (("look", book.looks(kind)), ("write", book.writes(kind))) for client in lot]
+
+
+def told_stand(book, staff, run):
+    """What stand tells, by the words of point 6, as sets: looked, held, known of each person, and papers by client."""
+    looked, held, known = ([set() for _ in staff] for _ in range(3))
+    papers = {client: {client} for client in book.clients}
+    for person, word, client in run:
+        held[person].add(client)
+        if word == "look":
+            looked[person].add(client)
+            known[person] |= papers[client]
+        else:
+            papers[client] |= known[person]
+    return looked, held, known, papers
+
+
+def told_goes(fence, staff, run, deed):
+    """Whether the deed goes by the fence behind the run, by the words of point 6."""
+    person, word, client = deed
+    looked, held, _, _ = told_stand(fence.book, staff, run)
+    if any(have_rivals(fence.book, {one, client}) for one in held[person]):
+        return False
+    return word == "look" or all(one == client or (one, client) in fence.pairs for one in looked[person])
+
+
+def reachable(fence):
+    """For each client, all those whose facts come into its papers by hops, by the words of point 7."""
+    book = fence.book
+    lots = {client: {client} for client in book.clients}
+    hops = [(one, other) for one, other in fence.pairs
+            if any(one in book.looks(kind) and other in book.writes(kind) for kind in book.kinds)]
+    for _ in book.clients:
+        for one, other in hops:
+            lots[other] |= lots[one]
+    return lots
+
+
+def told_closed(fence, lots):
+    """Whether these lots, by client, are closed for the fence, by the words of point 7."""
+    book = fence.book
+    for client in book.clients:
+        if client not in lots[client]:
+            return False
+    for kind in book.kinds:
+        for one, other in fence.pairs:
+            if one in book.looks(kind) and other in book.writes(kind) and not set(lots[one]) <= set(lots[other]):
+                return False
+        for one, other in itertools.product(book.looks(kind), repeat=2):
+            if have_rivals(book, {one, other}):
+                continue
+            if any(have_rivals(book, {a, b}) for a, b in itertools.product(lots[one], lots[other])):
+                return False
+    return True
+
+
+def told_apart(fence):
+    """Whether the fence keeps apart: the least table that could be closed is."""
+    return told_closed(fence, reachable(fence))
+
+
+class Crowd:
+    """Some people of whatever kinds, who go through all their runs by a fence, with numbers for sets of clients."""
+
+    def __init__(self, fence, many):
+        book = fence.book
+        at = {client: 1 << number for number, client in enumerate(book.clients)}
+        self.many = many
+        self.foes = {at[client]: sum(at[rival] for rival in book.rivals_of(client)) for client in book.clients}
+        self.sources = {at[client]: at[client] + sum(at[a] for a, b in fence.pairs if b == client) for client in at}
+        self.kinds = [[[at[client] for client in lot] for lot in (book.looks(kind), book.writes(kind))]
+                      for kind in book.kinds]
+
+    def meets(self, known):
+        return any(known & client and known & foes for client, foes in self.foes.items())
+
+    def behind(self, person, papers):
+        """All (person, papers) that stand behind one more deed of this person."""
+        kind, looked, held, known = person
+        looks, writes = self.kinds[kind]
+        for client in looks:
+            if not held & self.foes[client]:
+                yield (kind, looked | client, held | client, known | papers[client]), papers
+        for client in writes:
+            if not held & self.foes[client] and not looked & ~self.sources[client]:
+                yield (kind, looked, held | client, known), {**papers, client: papers[client] | known}
+
+    def fewest(self, most=None):
+        """The number of deeds of a shortest run with a meeting, None if none of these has one (or none so short)."""
+        latest = [((), {client: client for client in self.foes})]
+        seen = set()
+        for deeds in itertools.count(1):
+            reached = []
+            for people, papers in latest:
+                anew = [(kind, 0, 0, 0) for kind in range(len(self.kinds))] if len(people) < self.many else []
+                for person in {*people, *anew}:
+                    others = list(people)
+                    if person in others:
+                        others.remove(person)
+                    for after, borne in self.behind(person, papers):
+                        if self.meets(after[3]):
+                            return deeds
+                        everybody = tuple(sorted([*others, after]))
+                        key = everybody, tuple(borne.values())
+                        if key not in seen:
+                            seen.add(key)
+                            reached.append((everybody, borne))
+            if not reached or deeds == most:
+                return None
+            latest = reached
+
+
 class Checks(unittest.TestCase):
     """Checks that are stricter than those of unittest."""
 
@@ -67,3 +226,13 @@ class Checks(unittest.TestCase):
             call(*args, **named)
         self.assertIs(type(caught.exception), error)
         self.assertIs(caught.exception.value, value)
+
+    def way_round(self, fence, staff, run):
+        """This is a run by the fence, in which each person has a deed, and just the last deed is a meeting."""
+        self.assertIsNone(barred(fence, staff, run))
+        self.assertEqual(meeting(fence.book, staff, run), len(run) - 1)
+        self.assertEqual({deed[0] for deed in run}, set(range(len(staff))))
+        for at, deed in enumerate(run):
+            self.assertTrue(told_goes(fence, staff, run[:at], deed))
+            known = told_stand(fence.book, staff, run[:at + 1])[2][deed[0]]
+            self.assertIs(have_rivals(fence.book, known), at == len(run) - 1)

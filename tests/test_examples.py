@@ -18,6 +18,31 @@ FENCES = r"""
 [True, True, False]
 """
 
+RUNS = r"""
+>>> from wallbooks.runs import barred, barred_by_facts, meeting, stand
+>>> staff, run = ('hand', 'hand'), ((0, 'look', 'oil'), (0, 'write', 'bank'), (1, 'look', 'mill'), (1, 'look', 'bank'))
+>>> [meeting(book, staff, run), barred(plain(book), staff, run), barred(walls(book), staff, run), barred_by_facts(book, staff, run)]
+[3, None, 1, 3]
+>>> stand(book, staff, run[:3])
+(((('oil',), ('oil', 'bank'), ('oil',)), (('mill',), ('mill',), ('mill',))), (('oil',), ('oil', 'bank'), ('mill',)))
+>>> barred(plain(book), ('hand',), ((0, 'write', 'oil'), (0, 'look', 'bank'), (0, 'look', 'mill')))
+2
+"""
+
+APART = r"""
+>>> from wallbooks.apart import apart, shows_apart
+>>> [apart(plain(book))[0], shows_apart(plain(book), ('round', staff, run)), apart(bare(book))[0]]
+['round', True, 'apart']
+>>> shows_apart(walls(book), ('apart', (('oil', 'bank'), ('bank',), ('bank', 'mill'))))
+True
+"""
+
+FULLEST = r"""
+>>> from wallbooks.fullest import addable, fullest
+>>> [addable(bare(book)), fullest(bare(book)) == ('only', walls(book))]
+[(('bank', 'mill'), ('bank', 'oil')), True]
+"""
+
 
 class ExamplesTest(unittest.TestCase):
     def runs(self, text):
@@ -32,3 +57,12 @@ class ExamplesTest(unittest.TestCase):
 
     def test_fences(self):
         self.runs(BOOKS + FENCES)
+
+    def test_runs(self):
+        self.runs(BOOKS + FENCES + RUNS)
+
+    def test_apart(self):
+        self.runs(BOOKS + FENCES + RUNS + APART)
+
+    def test_fullest(self):
+        self.runs(BOOKS + FENCES + FULLEST)
