@@ -156,6 +156,38 @@ def told_apart(fence):
     return told_closed(fence, reachable(fence))
 
 
+class Otherwise:
+    """A book told by other names, with clients, lines of rivals and kinds in other sequences."""
+
+    def __init__(self, rng, book):
+        self.names = dict(zip(book.clients, rng.sample("abcdefgh", len(book))))
+        self.kinds = dict(zip(book.kinds, rng.sample("wxyz", len(book.kinds))))
+        clients = rng.sample(sorted(self.names.values()), len(book))
+        rivals = [rng.sample((self.names[one], self.names[other]), 2) for one, other in book.rivals]
+        lots = [(self.kinds[kind], *([client for client in clients if client in {self.names[one] for one in lot}]
+                                     for lot in (book.looks(kind), book.writes(kind)))) for kind in book.kinds]
+        self.book = Book(text_of(clients, rng.sample(rivals, len(rivals)), rng.sample(lots, len(lots))))
+
+    def lot(self, clients):
+        """The lot of these clients."""
+        named = {self.names[client] for client in clients}
+        return tuple(client for client in self.book.clients if client in named)
+
+    def lots(self, lots):
+        """These lots, by their first clients in sequence."""
+        told = [self.lot(lot) for lot in lots]
+        return tuple(sorted(told, key=lambda lot: self.book.clients.index(lot[0])))
+
+    def staff(self, staff):
+        return tuple(self.kinds[kind] for kind in staff)
+
+    def run(self, run):
+        return tuple((person, word, self.names[client]) for person, word, client in run)
+
+    def fence(self, fence):
+        return Fence(self.book, tuple((self.names[one], self.names[other]) for one, other in fence.pairs))
+
+
 class Crowd:
     """Some people of whatever kinds, who go through all their runs by a fence, with numbers for sets of clients."""
 

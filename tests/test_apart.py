@@ -5,7 +5,8 @@ import itertools
 import random
 
 from tests.helpers import (
-    EIGHT, TEXT, Checks, Crowd, reachable, row_of, some_book, some_fence, text_of, told_apart, told_closed, two_rows,
+    EIGHT, TEXT, Checks, Crowd, Otherwise, reachable, row_of, some_book, some_fence, text_of, told_apart, told_closed,
+    two_rows,
 )
 from wallbooks import apart as module
 from wallbooks.apart import apart, shows_apart
@@ -323,23 +324,15 @@ class GuaranteesTest(ApartChecks):
     def test_other_names_and_sequences_tell_the_same(self):
         rng = random.Random(8)
         for fence in self.some_fences(9, 6):
-            book = fence.book
-            names = dict(zip(book.clients, rng.sample("abcdefgh", len(book))))
-            kinds = dict(zip(book.kinds, rng.sample("wxyz", len(book.kinds))))
-            clients = rng.sample(sorted(names.values()), len(book))
-            rivals = [rng.sample((names[one], names[other]), 2) for one, other in book.rivals]
-            lots = [(kinds[kind], *([client for client in clients if client in {names[one] for one in lot}]
-                                    for lot in (book.looks(kind), book.writes(kind)))) for kind in book.kinds]
-            other = Book(text_of(clients, rng.sample(rivals, len(rivals)), rng.sample(lots, len(lots))))
-            newer = Fence(other, tuple((names[a], names[b]) for a, b in fence.pairs))
+            otherwise = Otherwise(rng, fence.book)
+            newer = otherwise.fence(fence)
             told, again = self.right(fence), self.right(newer)
             self.same(told[0], again[0])
             if told[0] == "round":
                 self.same([len(part) for part in told], [len(part) for part in again])
-                staff = tuple(kinds[kind] for kind in told[1])
-                run = tuple((person, word, names[client]) for person, word, client in told[2])
+                staff, run = otherwise.staff(told[1]), otherwise.run(told[2])
                 self.assertIs(shows_apart(newer, ("round", staff, run)), True)
-                self.assertEqual(meeting(other, staff, run), len(run) - 1)
+                self.assertEqual(meeting(newer.book, staff, run), len(run) - 1)
 
     def test_kinds_of_the_same_rights(self):
         for fence in self.some_fences(10, 4):

@@ -43,6 +43,24 @@ FULLEST = r"""
 [(('bank', 'mill'), ('bank', 'oil')), True]
 """
 
+STAFFS = r"""
+>>> from wallbooks.staffs import gathered, greatest
+>>> [greatest(book, 'hand'), gathered(book, ('hand',)), gathered(book, ('hand', 'hand'))[0]]
+[(('bank', 'mill'), ('oil', 'bank')), ('apart',), 'meet']
+"""
+
+LOTS = r"""
+>>> from wallbooks.lots import needed, passed_on, shows_passed_on
+>>> [passed_on(book)[0], shows_passed_on(book, ('three', ('oil', 'bank', 'mill'))), passed_on(book.with_rivals('oil', 'bank')), needed(book)[0]]
+['three', True, ('lots', (('oil',), ('bank', 'mill'))), 2]
+"""
+
+CHOOSING = r"""
+>>> from wallbooks.choosing import cheapest
+>>> cheapest(book, (('rivals', 'oil', 'bank', 3), ('stop', 'hand', 'write', 'bank', 2)))[:3]
+('choice', 2, (1,))
+"""
+
 
 class ExamplesTest(unittest.TestCase):
     def runs(self, text):
@@ -66,3 +84,12 @@ class ExamplesTest(unittest.TestCase):
 
     def test_fullest(self):
         self.runs(BOOKS + FENCES + FULLEST)
+
+    def test_staffs(self):
+        self.runs(BOOKS + STAFFS)
+
+    def test_lots(self):
+        self.runs(BOOKS + LOTS)
+
+    def test_choosing(self):
+        self.runs(BOOKS + CHOOSING)

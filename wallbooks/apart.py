@@ -1,31 +1,41 @@
 """Whether rivals' facts can ever come to one person, however many people there are: a table, or a way round."""
 
 from wallbooks.names import is_lot
-from wallbooks.runs import barred, is_run, is_staff, meeting
+from wallbooks.runs import barred, first_meeting, is_run, is_staff, own_facts
 
 
 def apart(fence):
     """Return ("apart", table) if no run by the fence has a meeting, otherwise ("round", staff, run), a shortest one."""
-    hops = hops_of(fence.book, fence.pairs)
-    way = shortest_way(fence.book, hops)
-    if way is None:
-        return "apart", least_table(fence.book, hops)
-    staff, run = run_of_way(hops, way)
-    return "round", staff, run
+    return apart_from(fence, own_facts(fence.book))
 
 
 def shows_apart(fence, value):
     """Tell whether any value is a result that is right for apart of this fence."""
+    return shows_apart_from(fence, own_facts(fence.book), value)
+
+
+def apart_from(fence, borne):
+    """Return what apart tells of a fence, where papers bear these facts at first."""
+    hops = hops_of(fence.book, fence.pairs)
+    way = shortest_way(fence.book, hops, sights_of(fence.book), borne)
+    if way is None:
+        return "apart", least_table(fence.book, hops, borne)
+    staff, run = run_of_way(hops, way)
+    return "round", staff, run
+
+
+def shows_apart_from(fence, borne, value):
+    """Tell whether any value is a result that is right for a fence, where papers bear these facts at first."""
     if not isinstance(value, tuple):
         return False
     if len(value) == 2 and value[0] == "apart":
-        return is_closed_table(fence, value[1])
-    return len(value) == 3 and value[0] == "round" and is_way_round(fence, value[1], value[2])
+        return is_closed_table(fence, borne, value[1])
+    return len(value) == 3 and value[0] == "round" and is_way_round(fence, borne, value[1], value[2])
 
 
 def keeps_apart(book, pairs):
     """Tell whether the fence of some pairs of a book keeps rivals apart."""
-    return shortest_way(book, hops_of(book, pairs)) is None
+    return shortest_way(book, hops_of(book, pairs), sights_of(book), own_facts(book)) is None
 
 
 def hops_of(book, pairs):
@@ -50,10 +60,18 @@ def sights_of(book):
     ]
 
 
-def trails_from(start, hops):
-    """Return a shortest trail of clients, from hop to hop, to each client that can be reached from the first one."""
-    trails = {start: (start,)}
-    latest = [start]
+def trails_of(book, hops, borne):
+    """Return for each client a shortest trail of its facts to each client into whose papers they can come."""
+    return {
+        fact: trails_from([client for client in book.clients if fact in borne[client]], hops)
+        for fact in book.clients
+    }
+
+
+def trails_from(starts, hops):
+    """Return a shortest trail of clients, from hop to hop, from the starts to each client that can be reached."""
+    trails = {start: (start,) for start in starts}
+    latest = starts
     while latest:
         reached = []
         for one, other in hops:
@@ -64,21 +82,21 @@ def trails_from(start, hops):
     return trails
 
 
-def shortest_way(book, hops):
-    """Return (kind, trail, other trail) with as few deeds as can be, None if there is no way round.
+def shortest_way(book, hops, sights, borne):
+    """Return (worker, trail, other trail) with as few deeds as can be, None if there is no way round.
 
     Facts of two rivals come to one person along two trails; whoever goes a hop looks at one client and writes for the
     next one, and one person looks at the ends of both trails. A run with fewer deeds than the best of these is none:
     nobody can go hops of both trails and not know facts of both rivals, and who goes two of one trail can leave out
     what lies between them.
     """
-    trails = {client: trails_from(client, hops) for client in book.clients}
+    trails = trails_of(book, hops, borne)
     best = None
     # Each two sights are told both ways round, so that each two rivals need not be.
-    for kind, end, other_end in sights_of(book):
+    for worker, end, other_end in sights:
         for one, other in book.rivals:
             if end in trails[one] and other_end in trails[other]:
-                way = (kind, trails[one][end], trails[other][other_end])
+                way = (worker, trails[one][end], trails[other][other_end])
                 if best is None or deeds_of_way(way) < deeds_of_way(best):
                     best = way
     return best
@@ -91,30 +109,32 @@ def deeds_of_way(way):
     return 2 * (len(trail) - 1) + 2 * (len(other) - 1) + ends
 
 
+def tasks_of_way(hops, way):
+    """Return (worker, deeds) for each hop of a way round, and for who looks at the ends; a deed is (word, client)."""
+    worker, trail, other = way
+    steps = list(zip(trail, trail[1:])) + list(zip(other, other[1:]))
+    tasks = [(hops[step], (("look", step[0]), ("write", step[1]))) for step in steps]
+    ends = (trail[-1],) if trail[-1] == other[-1] else (trail[-1], other[-1])
+    tasks.append((worker, tuple([("look", end) for end in ends])))
+    return tasks
+
+
 def run_of_way(hops, way):
-    """Return (staff, run) of a way round: a person for each hop, and the last one, who looks at the ends."""
-    kind, trail, other = way
-    staff = []
-    run = []
-    for start, end in list(zip(trail, trail[1:])) + list(zip(other, other[1:])):
-        run.append((len(staff), "look", start))
-        run.append((len(staff), "write", end))
-        staff.append(hops[(start, end)])
-    run.append((len(staff), "look", trail[-1]))
-    if trail[-1] != other[-1]:
-        run.append((len(staff), "look", other[-1]))
-    staff.append(kind)
-    return tuple(staff), tuple(run)
+    """Return (staff, run) of a way round where the workers are kinds: another person for each task."""
+    tasks = tasks_of_way(hops, way)
+    staff = tuple([kind for kind, _ in tasks])
+    run = [(person, word, client) for person, (_, deeds) in enumerate(tasks) for word, client in deeds]
+    return staff, tuple(run)
 
 
-def least_table(book, hops):
+def least_table(book, hops, borne):
     """Return the table in whose lots there are just the clients whose facts can come into these papers."""
-    trails = {client: trails_from(client, hops) for client in book.clients}
-    return tuple([tuple([one for one in book.clients if client in trails[one]]) for client in book.clients])
+    trails = trails_of(book, hops, borne)
+    return tuple([tuple([fact for fact in book.clients if client in trails[fact]]) for client in book.clients])
 
 
-def is_closed_table(fence, value):
-    """Tell whether any value is a table that is closed for the fence."""
+def is_closed_table(fence, borne, value):
+    """Tell whether any value is a table that is closed for the fence, and has all that papers bear at first."""
     book = fence.book
     if not isinstance(value, tuple) or len(value) != len(book):
         return False
@@ -122,7 +142,7 @@ def is_closed_table(fence, value):
         return False
     lots = dict(zip(book.clients, value))
     return (
-        all([client in lots[client] for client in book.clients])
+        all([passes_on(borne[client], lots[client]) for client in book.clients])
         and all([passes_on(lots[one], lots[other]) for one, other in hops_of(book, fence.pairs)])
         and not any([meet(book, lots[one], lots[other]) for _, one, other in sights_of(book)])
     )
@@ -138,14 +158,14 @@ def meet(book, lot, other):
     return any([book.are_rivals(one, rival) for one in lot for rival in other])
 
 
-def is_way_round(fence, staff, run):
-    """Tell whether any two values are a staff and a run that apart may tell of the fence."""
+def is_way_round(fence, borne, staff, run):
+    """Tell whether any two values are a staff and a run that may be told of the fence."""
     book = fence.book
     if not is_staff(book, staff) or not is_run(book, staff, run):
         return False
     busy = [deed[0] for deed in run]
     if not all([person in busy for person in range(len(staff))]):
         return False
-    if barred(fence, staff, run) is not None or meeting(book, staff, run) != len(run) - 1:
+    if barred(fence, staff, run) is not None or first_meeting(book, staff, run, borne) != len(run) - 1:
         return False
-    return len(run) == deeds_of_way(shortest_way(book, hops_of(book, fence.pairs)))
+    return len(run) == deeds_of_way(shortest_way(book, hops_of(book, fence.pairs), sights_of(book), borne))

@@ -1,4 +1,9 @@
-"""Names and lots: what they are, and how they are put in sequence."""
+"""Integers, names and lots: what they are, and how clients are put in sequence."""
+
+
+def is_integer(value):
+    """Tell whether any value is an int that is not a bool."""
+    return isinstance(value, int) and not isinstance(value, bool)
 
 
 def is_name(word):

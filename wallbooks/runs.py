@@ -1,18 +1,21 @@
 """Runs: what the people of a staff do, deed by deed, and what they and the papers know behind it."""
 
 from wallbooks.errors import BadRun, BadStaff
-from wallbooks.names import in_sequence
+from wallbooks.names import in_sequence, is_integer
 
 
 class Standing:
-    """How a staff stands: what each person has seen, holds and knows, and whose facts each client's papers bear."""
+    """How a staff stands: what each person has seen, holds and knows, and whose facts each client's papers bear.
 
-    def __init__(self, book, staff):
+    Nobody has done anything at first, but papers may bear others' facts already.
+    """
+
+    def __init__(self, book, staff, borne):
         self.book = book
         self.seen = [()] * len(staff)
         self.held = [()] * len(staff)
         self.known = [()] * len(staff)
-        self.borne = {client: (client,) for client in book.clients}
+        self.borne = dict(borne)
 
     def do(self, deed):
         """Let one deed be done."""
@@ -38,7 +41,7 @@ class Standing:
 def stand(book, staff, run):
     """Return what each person has looked at, holds and knows, and what each client's papers bear, behind a run."""
     need_run(book, staff, run)
-    standing = Standing(book, staff)
+    standing = Standing(book, staff, own_facts(book))
     for deed in run:
         standing.do(deed)
     people = tuple(zip(standing.seen, standing.held, standing.known))
@@ -48,18 +51,13 @@ def stand(book, staff, run):
 def meeting(book, staff, run):
     """Return the number of the first deed behind which its person knows facts of two rivals, None if there is none."""
     need_run(book, staff, run)
-    standing = Standing(book, staff)
-    for at, deed in enumerate(run):
-        standing.do(deed)
-        if has_rivals(book, standing.known[deed[0]]):
-            return at
-    return None
+    return first_meeting(book, staff, run, own_facts(book))
 
 
 def barred(fence, staff, run):
     """Return the number of the first deed at which a run does not go by a fence, None if it goes by it."""
     need_run(fence.book, staff, run)
-    standing = Standing(fence.book, staff)
+    standing = Standing(fence.book, staff, own_facts(fence.book))
     for at, deed in enumerate(run):
         if not standing.lets(fence, deed):
             return at
@@ -70,12 +68,27 @@ def barred(fence, staff, run):
 def barred_by_facts(book, staff, run):
     """Return the number of the first deed at which a run does not go by facts, None if it goes by them."""
     need_run(book, staff, run)
-    standing = Standing(book, staff)
+    standing = Standing(book, staff, own_facts(book))
     for at, deed in enumerate(run):
         person, _, client = deed
         standing.do(deed)
         # Only these two can have got facts by the deed.
         if has_rivals(book, standing.known[person]) or has_rivals(book, standing.borne[client]):
+            return at
+    return None
+
+
+def own_facts(book):
+    """Return what each client's papers bear at first: its own facts alone."""
+    return {client: (client,) for client in book.clients}
+
+
+def first_meeting(book, staff, run, borne):
+    """Return the number of the first deed that is a meeting, from papers that bear these facts; None if none is."""
+    standing = Standing(book, staff, borne)
+    for at, deed in enumerate(run):
+        standing.do(deed)
+        if has_rivals(book, standing.known[deed[0]]):
             return at
     return None
 
@@ -117,4 +130,4 @@ def is_deed(book, staff, value):
 
 def is_person(staff, value):
     """Tell whether any value is the number of a person of the staff."""
-    return isinstance(value, int) and not isinstance(value, bool) and 0 <= value < len(staff)
+    return is_integer(value) and 0 <= value < len(staff)
