@@ -4,7 +4,11 @@ import itertools
 import unittest
 
 from wallbooks.books import Book
+from wallbooks.errors import (
+    Fenced, Full, Left, NoClient, NoKind, NoPerson, NoRight, NothingToRedo, NothingToUndo, Rival,
+)
 from wallbooks.fences import Fence, plain
+from wallbooks.houses import House
 from wallbooks.runs import barred, meeting
 
 TEXT = "clients oil bank mill\nrivals oil mill\nkind hand\nlooks oil bank mill\nwrites oil bank mill"
@@ -36,6 +40,7 @@ def odd_values():
         ((("oil", "bank"),),), [("oil", "bank")], (["oil", "bank"],), (1, True), (None,), ((),),
         book, plain(book), (book,), [plain(book)], (("oil", book),), {"a": {"b": [book]}},
         deep("oil", 30), deep(book, 30), deep(plain(book), 29), Fence(book, ()), (book, plain(book)),
+        House(plain(book)), (House(plain(book)),), {"oil": [House(plain(book))]}, deep(House(plain(book)), 30),
     ]
 
 
@@ -121,10 +126,13 @@ def told_goes(fence, staff, run, deed):
     return word == "look" or all(one == client or (one, client) in fence.pairs for one in looked[person])
 
 
-def reachable(fence):
-    """For each client, all those whose facts come into its papers by hops, by the words of point 7."""
+def reachable(fence, borne=None):
+    """For each client, all those whose facts come into its papers by hops, by the words of point 7.
+
+    At first papers bear their own facts alone, or those that are told.
+    """
     book = fence.book
-    lots = {client: {client} for client in book.clients}
+    lots = {client: set(borne[client]) if borne else {client} for client in book.clients}
     hops = [(one, other) for one, other in fence.pairs
             if any(one in book.looks(kind) and other in book.writes(kind) for kind in book.kinds)]
     for _ in book.clients:
@@ -191,7 +199,7 @@ class Otherwise:
 class Crowd:
     """Some people of whatever kinds, who go through all their runs by a fence, with numbers for sets of clients."""
 
-    def __init__(self, fence, many):
+    def __init__(self, fence, many, borne=None):
         book = fence.book
         at = {client: 1 << number for number, client in enumerate(book.clients)}
         self.many = many
@@ -199,6 +207,7 @@ class Crowd:
         self.sources = {at[client]: at[client] + sum(at[a] for a, b in fence.pairs if b == client) for client in at}
         self.kinds = [[[at[client] for client in lot] for lot in (book.looks(kind), book.writes(kind))]
                       for kind in book.kinds]
+        self.borne = {at[client]: sum(at[fact] for fact in borne[client]) if borne else at[client] for client in at}
 
     def meets(self, known):
         return any(known & client and known & foes for client, foes in self.foes.items())
@@ -216,7 +225,7 @@ class Crowd:
 
     def fewest(self, most=None):
         """The number of deeds of a shortest run with a meeting, None if none of these has one (or none so short)."""
-        latest = [((), {client: client for client in self.foes})]
+        latest = [((), self.borne)]
         seen = set()
         for deeds in itertools.count(1):
             reached = []
@@ -239,6 +248,88 @@ class Crowd:
             latest = reached
 
 
+class Model:
+    """A house by the words of point 13: each call tells what the house has to return, or the error it has to raise."""
+
+    def __init__(self, fence):
+        self.fence = fence
+        self.steps = []
+        self.undone = []
+
+    def staff(self):
+        return tuple(step[1] for step in self.steps if step[0] == "hire")
+
+    def run(self):
+        return tuple((step[1], step[0], step[2]) for step in self.steps if step[0] in ("look", "write"))
+
+    def stands(self):
+        return told_stand(self.fence.book, self.staff(), self.run())
+
+    def lot(self, members):
+        return tuple(client for client in self.fence.book.clients if client in members)
+
+    def wrong_deed(self, person, word, client):
+        """The first error that applies to a deed, None if there is none."""
+        book = self.fence.book
+        if wrong := self.wrong_person(person):
+            return wrong
+        if ("leave", person) in self.steps:
+            return Left, person
+        if client not in book.clients:
+            return NoClient, client
+        kind = self.staff()[person]
+        if client not in {"look": book.looks, "write": book.writes}[word](kind):
+            return NoRight, (person, word, client)
+        looked, held = (self.lot(lots[person]) for lots in self.stands()[:2])
+        foes = [one for one in held if have_rivals(book, {one, client})]
+        if foes:
+            return Rival, (client, foes[0])
+        fenced = [one for one in looked if one != client and (one, client) not in self.fence.pairs]
+        if word == "write" and fenced:
+            return Fenced, (fenced[0], client)
+        return (Full, 40) if len(self.run()) == 40 else None
+
+    def wrong_person(self, person):
+        return None if type(person) is int and 0 <= person < len(self.staff()) else (NoPerson, person)
+
+    def wrong(self, name, *args):
+        """The first error that applies to a call of a step, undo or redo, None if there is none."""
+        if name in ("look", "write"):
+            return self.wrong_deed(args[0], name, args[1])
+        if name == "hire":
+            if args[0] not in self.fence.book.kinds:
+                return NoKind, args[0]
+            return (Full, 8) if len(self.staff()) == 8 else None
+        if name == "leave":
+            return self.wrong_person(args[0]) or ((Left, args[0]) if ("leave", args[0]) in self.steps else None)
+        if name == "undo":
+            return None if self.steps else (NothingToUndo, None)
+        return None if self.undone else (NothingToRedo, None)
+
+    def do(self, name, *args):
+        """Do a call that is not wrong; tell what it returns."""
+        if name == "undo":
+            self.undone.append(self.steps.pop())
+        elif name == "redo":
+            self.steps.append(self.undone.pop())
+        else:
+            self.steps.append((name, *args))
+            self.undone = []
+        return len(self.staff()) - 1 if name == "hire" else None
+
+    def can(self, person):
+        book, kind = self.fence.book, self.staff()[person]
+        rights = [("look", client) for client in book.looks(kind)] + [("write", client) for client in book.writes(kind)]
+        return tuple(sorted((word, client) for word, client in rights if self.wrong_deed(person, word, client) is None))
+
+    def met(self):
+        run = self.run()
+        for at, deed in enumerate(run):
+            if have_rivals(self.fence.book, told_stand(self.fence.book, self.staff(), run[:at + 1])[2][deed[0]]):
+                return at
+        return None
+
+
 class Checks(unittest.TestCase):
     """Checks that are stricter than those of unittest."""
 
@@ -258,6 +349,24 @@ class Checks(unittest.TestCase):
             call(*args, **named)
         self.assertIs(type(caught.exception), error)
         self.assertIs(caught.exception.value, value)
+
+    def refused(self, wrong, call, *args):
+        """The call raises just this (error, value)."""
+        self.refuses(wrong[0], wrong[1], call, *args)
+
+    def stands(self, house, model):
+        """All that a house tells, but risk, is what its model tells."""
+        staff, run = model.staff(), model.run()
+        self.same((house.fence, house.staff, house.run, house.done, len(house)),
+                  (model.fence, staff, run, len(model.steps), len(staff)))
+        looked, held, known, papers = model.stands()
+        for person, kind in enumerate(staff):
+            self.same(house[person], kind)
+            self.same([house.looked(person), house.holds(person), house.knows(person), house.can(person)],
+                      [model.lot(looked[person]), model.lot(held[person]), model.lot(known[person]), model.can(person)])
+        for client in model.fence.book.clients:
+            self.same(house.papers(client), model.lot(papers[client]))
+        self.same(house.met(), model.met())
 
     def way_round(self, fence, staff, run):
         """This is a run by the fence, in which each person has a deed, and just the last deed is a meeting."""

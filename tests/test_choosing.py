@@ -174,7 +174,8 @@ class CheapestTest(ChoosingChecks):
 
     def test_of_one_price_and_so_many_offers_as_tuples_of_numbers(self):
         book = Book(EITHER)
-        stops = (("stop", "one", "look", "oil", 5), ("stop", "other", "write", "bank", 5), ("stop", "eye", "look", "bank", 5))
+        stops = (("stop", "one", "look", "oil", 5), ("stop", "other", "write", "bank", 5),
+                 ("stop", "eye", "look", "bank", 5))
         for offers in itertools.permutations(stops):
             told = self.right(book, offers)
             self.same([told[:3], [reason[0] for reason in told[3]]], [("choice", 5, (0,)), [()]])
@@ -183,7 +184,8 @@ class CheapestTest(ChoosingChecks):
         for right in (("eye", "look", "oil"), ("eye", "look", "mill"), ("other", "write", "oil")):
             book = book.with_right(*right)
         told = self.right(book, offers)
-        self.same([told[:3], [reason[0] for reason in told[3]]], [("choice", 10, (1, 2)), [(), (0,), (1,), (2,), (0, 1), (0, 2)]])
+        self.same([told[:3], [reason[0] for reason in told[3]]], [("choice", 10, (1, 2)),
+                                                                  [(), (0,), (1,), (2,), (0, 1), (0, 2)]])
 
     def test_prices(self):
         book = Book(EITHER)
@@ -191,14 +193,16 @@ class CheapestTest(ChoosingChecks):
         for prices in itertools.product((1, 50, 99), repeat=3):
             told = self.right(book, tuple((*stop, price) for stop, price in zip(stops, prices)))
             self.same(told[:3], ("choice", min(prices), (prices.index(min(prices)),)))
-        told = self.right(Book(TEXT), tuple(("stop", "hand", "write", client, 99) for client in ("mill", "oil", "bank")))
+        told = self.right(Book(TEXT), tuple(("stop", "hand", "write", client, 99) for client in ("mill", "oil",
+                                                                                                 "bank")))
         self.same(told[:3], ("choice", 99, (2,)))
 
     def test_an_offer_can_let_more_come_together_in_no_other_way(self):
         # Rivals more: what the read rule bars then, but also two more who must not come together.
         clients = ("a", "b", "c", "d")
         book = Book(text_of(clients, (("a", "b"), ("c", "d")), (("hand", clients, clients),)))
-        told = self.right(book, (("rivals", "a", "c", 1), ("rivals", "b", "d", 1), ("rivals", "a", "d", 5), ("rivals", "b", "c", 5)))
+        told = self.right(book, (("rivals", "a", "c", 1), ("rivals", "b", "d", 1), ("rivals", "a", "d", 5),
+                                 ("rivals", "b", "c", 5)))
         self.same(told[:3], ("choice", 2, (0, 1)))
 
     def test_reasons_hold_against_all_runs(self):
@@ -216,7 +220,8 @@ class CheapestTest(ChoosingChecks):
             offers = some_offers(rng, book, 4)
             otherwise = Otherwise(rng, book)
             named = tuple(("rivals", *otherwise.lot(offer[1:3]), offer[3]) if offer[0] == "rivals" else
-                          ("stop", otherwise.kinds[offer[1]], offer[2], otherwise.names[offer[3]], offer[4]) for offer in offers)
+                          ("stop", otherwise.kinds[offer[1]], offer[2], otherwise.names[offer[3]],
+                           offer[4]) for offer in offers)
             told, again = self.right(book, offers), self.right(otherwise.book, named)
             self.same(told[:-1], again[:-1])
             reasons = tuple((choice, otherwise.staff(staff), otherwise.run(run)) for choice, staff, run in told[-1])
@@ -266,7 +271,8 @@ class OffersTest(ChoosingChecks):
         book = Book(TEXT)
         for pair in (("oil", "bank"), ("bank", "mill")):
             self.right(book, (("rivals", *pair, 1),))
-        for pair in (("bank", "oil"), ("mill", "bank"), ("oil", "mill"), ("mill", "oil"), ("oil", "oil"), ("bank", "bank"),
+        for pair in (("bank", "oil"), ("mill", "bank"), ("oil", "mill"), ("mill", "oil"), ("oil", "oil"),
+                     ("bank", "bank"),
                      ("oil", "rail"), ("rail", "bank"), ("oil", None), (True, "bank"), (("oil", "bank"), "mill")):
             self.bad_offers(book, ("rivals", *pair, 1))
 
@@ -284,10 +290,13 @@ class OffersTest(ChoosingChecks):
         book = Book(TEXT)
         self.bad_offers(book, list(RIVALS), list(STOP), RIVALS[:-1], STOP[:-1], (*RIVALS, 1), (*STOP, 1), (RIVALS,), (),
                         ("Rivals", *RIVALS[1:]), ("stop", *RIVALS[1:]), ("rivals", *STOP[1:]), ("rival", *RIVALS[1:]),
-                        RIVALS[1:], STOP[1:], (3, "rivals", "oil", "bank"), ("rivals", ("oil", "bank"), 3), "rivals oil bank 3",
+                        RIVALS[1:], STOP[1:], (3, "rivals", "oil", "bank"), ("rivals", ("oil", "bank"), 3),
+                        "rivals oil bank 3",
                         ("rivals", "oil", "bank", 3, 3), (None, *RIVALS[1:]), ("stop", ("hand", "write", "bank"), 2),
-                        dict.fromkeys(RIVALS), ("stop", "hand", "write", "bank"), ("rivals", "oil", 3), ("rivals",), (3,))
-        self.bad(book, RIVALS, STOP, [RIVALS, STOP], [STOP], {"a": STOP}, "stop", ((STOP,),), (STOP, (RIVALS,)), {STOP: 1})
+                        dict.fromkeys(RIVALS), ("stop", "hand", "write", "bank"), ("rivals", "oil", 3), ("rivals",),
+                        (3,))
+        self.bad(book, RIVALS, STOP, [RIVALS, STOP], [STOP], {"a": STOP}, "stop", ((STOP,),), (STOP, (RIVALS,)),
+                 {STOP: 1})
 
     def test_odd_values(self):
         book = Book(TEXT)
@@ -319,7 +328,8 @@ class ShowsTest(ChoosingChecks):
         self.shows(self.book, self.offers, told)
         longer = ((0, "look", "bank"), *RUN)
         self.hides(self.book, self.offers, ("choice", 3, (1,), (REASON,)), ("choice", 3, (0,), (REASON,)),
-                   ("choice", 3, (0,), (REASON, REASON)), ("choice", 0, (), ()), ("choice", 2, (1,), ()), ("choice", 2, (True,), (REASON,)),
+                   ("choice", 3, (0,), (REASON, REASON)), ("choice", 0, (), ()), ("choice", 2, (1,), ()),
+                   ("choice", 2, (True,), (REASON,)),
                    ("choice", 2, (1,), (REASON, REASON)), ("choice", 2, [1], (REASON,)), ("choice", 2, (1,), [REASON]),
                    ("choice", 2, (1,), (list(REASON),)), ("choice", 2, (1,), REASON), ("choice", 2, 1, (REASON,)),
                    ("choice", "2", (1,), (REASON,)), ("choice", 2, (0, 1), (REASON,)), ("choice", 5, (0, 1), (REASON,)),
@@ -331,7 +341,8 @@ class ShowsTest(ChoosingChecks):
                    ("choice", 2, (1,), (([], STAFF, RUN),)), ("choice", 2, (1,), (((), ("hand",) * 3, RUN),)),
                    ("choice", 2, (1,), (((), list(STAFF), RUN),)), ("choice", 2, (1,), (((), STAFF, list(RUN)),)),
                    ("choice", 2, (1,), (((), RUN, STAFF),)), ("choice", 2, (1,), (("round", STAFF, RUN),)),
-                   ("choice", 2, (1,), (((), STAFF),)), ("choice", 2, (1,), (((), STAFF, ()),)), ("choice", 1, (1,), (REASON,)),
+                   ("choice", 2, (1,), (((), STAFF),)), ("choice", 2, (1,), (((), STAFF, ()),)),
+                   ("choice", 1, (1,), (REASON,)),
                    (2, (1,), (REASON,)), {"choice": 2}, ("choice", 2, (1,), None), ("choice", (1,), 2, (REASON,)))
 
     def test_true_is_not_one(self):
@@ -347,30 +358,35 @@ class ShowsTest(ChoosingChecks):
         offers = (("stop", "hand", "write", "oil", 1), ("stop", "hand", "write", "mill", 1))
         reasons = tuple((choice, STAFF, RUN) for choice in ((), (0,), (1,), (0, 1)))
         self.shows(self.book, offers, ("none", reasons))
-        for at, choice in ((1, (False,)), (2, (True,)), (3, (False, 1)), (3, (0, True)), (3, (1, 0)), (1, (1,)), (1, [0]), (0, (0,))):
+        for at, choice in ((1, (False,)), (2, (True,)), (3, (False, 1)), (3, (0, True)), (3, (1, 0)), (1, (1,)),
+                           (1, [0]), (0, (0,))):
             self.hides(self.book, offers, ("none", (*reasons[:at], (choice, STAFF, RUN), *reasons[at + 1:])))
 
     def test_reasons_out_twice_and_exchanged(self):
-        offers = (("stop", "hand", "write", "oil", 1), ("stop", "hand", "write", "mill", 2), ("stop", "hand", "look", "oil", 50))
+        offers = (("stop", "hand", "write", "oil", 1), ("stop", "hand", "write", "mill", 2),
+                  ("stop", "hand", "look", "oil", 50))
         told = self.right(self.book, offers)
         self.same([told[:3], len(told[3])], [("choice", 50, (2,)), 4])
         reasons = told[3]
         for at, reason in enumerate(reasons):
-            self.hides(self.book, offers, (*told[:3], reasons[:at] + reasons[at + 1:]), (*told[:3], reasons[:at + 1] + reasons[at:]),
+            self.hides(self.book, offers, (*told[:3], reasons[:at] + reasons[at + 1:]),
+                       (*told[:3], reasons[:at + 1] + reasons[at:]),
                        (*told[:3], reasons[:at] + reasons[at:at + 1] * 2 + reasons[at + 2:]),
                        (*told[:3], (*reasons[:at], reason[1:], *reasons[at + 1:])))
         for one, other in itertools.combinations(range(4), 2):
             changed_places = list(reasons)
             changed_places[one], changed_places[other] = reasons[other], reasons[one]
             self.hides(self.book, offers, (*told[:3], tuple(changed_places)))
-        self.hides(self.book, offers, (*told[:3], (*reasons, ((2,), STAFF, RUN))), (*told[:3], ()), (*told[:3], reasons[::-1]))
+        self.hides(self.book, offers, (*told[:3], (*reasons, ((2,), STAFF, RUN))), (*told[:3], ()),
+                   (*told[:3], reasons[::-1]))
 
     def test_none_and_a_choice(self):
         none = ("none", tuple((choice, STAFF, RUN) for choice in ((), (0,))))
         offers = (("stop", "hand", "write", "oil", 1),)
         self.shows(self.book, offers, none)
         self.hides(self.book, offers, ("none", none[1][:1]), ("none", ()), ("none",), ("none", none[1], ()), list(none),
-                   ("none", none[1][::-1]), ("choice", 1, (0,), none[1][:1]), ("choice", none[1]), ("none", none[1] * 2),
+                   ("none", none[1][::-1]), ("choice", 1, (0,), none[1][:1]), ("choice", none[1]),
+                   ("none", none[1] * 2),
                    ("None", none[1]), none[1], ("choice", 0, (), ()), (None, none[1]), ("none", 1, (0,), none[1]))
 
     def test_a_longer_way_round_another_staff_and_another_choice_s_way(self):
@@ -386,7 +402,8 @@ class ShowsTest(ChoosingChecks):
             wanted = "other" in three[1][0] and "one" in three[2][0]
             self.assertIs(shows_cheapest(book, offers, value), wanted)
         longer = (("other", "eye"), (*other[1][:2], (0, "look", "mill"), *other[1][2:]))
-        three = (("one", "other", "eye"), ((0, "look", "oil"), (0, "write", "bank"), (1, "look", "mill"), (1, "write", "bank"),
+        three = (("one", "other", "eye"), ((0, "look", "oil"), (0, "write", "bank"), (1, "look", "mill"),
+                                           (1, "write", "bank"),
                                           (2, "look", "bank")))
         for way in (longer, three):
             self.hides(book, offers, ("choice", 2, (0, 1), (((), *way), *told[3][1:])))
@@ -398,17 +415,20 @@ class ShowsTest(ChoosingChecks):
         self.hides(self.book, (STOP,), told)
         self.shows(self.book, (("stop", "hand", "look", "oil", 3), STOP), told)
         self.hides(self.book.without_rivals("oil", "mill"), self.offers, told)
-        self.hides(Book(TEXT.replace("hand", "pen")), (("rivals", "oil", "bank", 3), ("stop", "pen", "write", "bank", 2)), told)
+        self.hides(Book(TEXT.replace("hand", "pen")), (("rivals", "oil", "bank", 3),
+                                                       ("stop", "pen", "write", "bank", 2)), told)
         self.hides(Book(TEXT.replace("mill", "rail")), self.offers, told)
 
     def test_odd_values(self):
         told = ("choice", 2, (1,), (REASON,))
         for value in [*odd_values(), (), deep(told, 30), deep(REASON, 29)]:
             self.hides(self.book, self.offers, value, (value,), (*told, value), (value, *told[1:]), ("none", value),
-                       ("choice", value, (1,), (REASON,)), ("choice", 2, value, (REASON,)), ("choice", 2, (value, 2), (REASON,)),
+                       ("choice", value, (1,), (REASON,)), ("choice", 2, value, (REASON,)),
+                       ("choice", 2, (value, 2), (REASON,)),
                        ("choice", 2, (1, value), (REASON,)), ("choice", 2, (1,), value), ("choice", 2, (1,), (value,)),
                        ("choice", 2, (1,), (REASON, value)), ("choice", 2, (1,), (((), value, RUN),)),
                        ("choice", 2, (1,), (((), STAFF, value),)), ("choice", 2, (1,), (((), STAFF, RUN, value),)),
-                       ("choice", 2, (1,), (((value,), STAFF, RUN),)), ("choice", 2, (1,), (((), STAFF, (*RUN, value)),)))
+                       ("choice", 2, (1,), (((value,), STAFF, RUN),)), ("choice", 2, (1,),
+                                                                        (((), STAFF, (*RUN, value)),)))
             if value != ():
                 self.hides(self.book, self.offers, ("choice", 2, (1,), ((value, STAFF, RUN),)))

@@ -61,6 +61,32 @@ CHOOSING = r"""
 ('choice', 2, (1,))
 """
 
+TELLING = r"""
+>>> from wallbooks.telling import fits, told_back
+>>> cases = ((('oil',), 'bank', 'let'), (('oil', 'bank'), 'mill', 'barred'))
+>>> [told_back(('oil', 'bank', 'mill'), cases), fits(('oil', 'bank', 'mill'), cases, (('bank', 'mill'),))]
+[((), (('bank', 'mill'), ('oil', 'mill')), (('oil', 'bank'),)), True]
+"""
+
+HOUSES = r"""
+>>> from wallbooks.houses import House
+>>> house = House(walls(book))
+>>> [house.hire('hand'), house.look(0, 'bank'), house.write(0, 'oil'), house.papers('oil'), house.holds(0), house.risk()[0]]
+[0, None, None, ('oil', 'bank'), ('oil', 'bank'), 'apart']
+>>> house.can(0)
+(('look', 'bank'), ('look', 'oil'), ('write', 'bank'), ('write', 'oil'))
+"""
+
+JOURNALS = r"""
+>>> from wallbooks.journals import journal, read_journal
+>>> [journal(house).split('\n')[5:], read_journal(journal(house)) == house]
+[['pair bank mill', 'pair bank oil', 'house', 'hire hand', 'look 0 bank', 'write 0 oil'], True]
+>>> from wallbooks.desk import Desk
+>>> desk = Desk(journal(house))
+>>> [desk.say('papers oil'), desk.say('can 0'), desk.say('risk'), desk.say('undo'), desk.say('papers oil')]
+['oil bank', 'look bank, look oil, write bank, write oil', 'apart', 'ok', 'oil']
+"""
+
 
 class ExamplesTest(unittest.TestCase):
     def runs(self, text):
@@ -93,3 +119,15 @@ class ExamplesTest(unittest.TestCase):
 
     def test_choosing(self):
         self.runs(BOOKS + CHOOSING)
+
+    def test_telling(self):
+        self.runs(TELLING)
+
+    def test_houses(self):
+        self.runs(BOOKS + FENCES + HOUSES)
+
+    def test_journals_and_the_desk(self):
+        self.runs(BOOKS + FENCES + HOUSES + JOURNALS)
+
+    def test_all_of_them_one_behind_the_other(self):
+        self.runs(BOOKS + FENCES + RUNS + APART + FULLEST + STAFFS + LOTS + CHOOSING + TELLING + HOUSES + JOURNALS)

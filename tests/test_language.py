@@ -9,7 +9,7 @@ import wallbooks
 
 PACKAGE = pathlib.Path(wallbooks.__file__).parent
 BUILTINS = """len range enumerate zip min max sum abs sorted reversed int str bool list tuple dict set isinstance ord repr
-any all divmod ValueError NotImplemented KeyError""".split()
+any all divmod ValueError TypeError NotImplemented KeyError""".split()
 FROM_LIBRARY = ("heapq", "math", "itertools", "collections")
 BARRED_WORDS = """type typing enum Enum Flag Generic Protocol ABC namedtuple NamedTuple TypedDict abstractmethod _wall
 register mro elements open input law""".split()
@@ -76,3 +76,20 @@ class LanguageTest(unittest.TestCase):
         for name, node in self.nodes(ast.Constant):
             if isinstance(node.value, str):
                 self.assertNotIn("%", node.value, f"{name}:{node.lineno}")
+
+    def test_l5_and_l17_beside_getitem(self):
+        for name, text in self.texts.items():
+            self.assertIsNone(re.search(r"\(type\)|Meta|metaclass=", text), name)
+        for name, node in self.nodes(ast.ClassDef):
+            methods = [part.name for part in node.body if isinstance(part, ast.FunctionDef)]
+            self.assertTrue("__getitem__" not in methods or "__iter__" in methods, name)
+            self.assertNotIn("keys", methods, name)
+
+    def test_l6_rows_of_exit(self):
+        for name, node in self.nodes(ast.FunctionDef):
+            if node.name == "__exit__":
+                for part in ast.walk(node):
+                    self.assertNotIsInstance(part, (ast.Call, ast.BinOp, ast.Subscript, ast.Raise, ast.For, ast.While), name)
+
+    def test_l23_no_generators(self):
+        self.assertEqual(self.nodes(ast.Yield, ast.YieldFrom, ast.AsyncFunctionDef, ast.Global, ast.Nonlocal), [])

@@ -49,7 +49,8 @@ def grouped_book(rng, many):
     """A book in which "not rivals" is passed on, with its lots in any sequence of clients."""
     clients = EIGHT[:many]
     group = {client: rng.randrange(3) for client in clients}
-    return Book(text_of(clients, [pair for pair in itertools.combinations(clients, 2) if group[pair[0]] != group[pair[1]]]))
+    return Book(text_of(clients, [pair for pair in itertools.combinations(clients,
+                                                                          2) if group[pair[0]] != group[pair[1]]]))
 
 
 def changes_of(lots):
@@ -58,7 +59,8 @@ def changes_of(lots):
     for at, lot in enumerate(lots):
         rest = (lots[:at], lots[at + 1:])
         found += [(*rest[0], other, *rest[1]) for other in (
-            lot[:-1], lot[1:], (*lot, lot[0]), (*lot, "rail x"), list(lot), lot[0], (lot,), (*lot[:-1], lot[-1:]), dict.fromkeys(lot))]
+            lot[:-1], lot[1:], (*lot, lot[0]), (*lot, "rail x"), list(lot), lot[0], (lot,), (*lot[:-1], lot[-1:]),
+            dict.fromkeys(lot))]
         found += [(*rest[0], lot[::-1], *rest[1])] if len(lot) > 1 else []
         found += [(*rest[0], lot[:1], lot[1:], *rest[1])] if len(lot) > 1 else []
         found += [(*rest[0], *rest[1], lot)] if rest[1] else []
@@ -191,17 +193,22 @@ class PassedOnTest(LotsChecks):
                    ("three", three[:2]), ("three", (*three, "oil")), ("three", ()), ("three", ("oil", "rail", "mill")),
                    ("three", list(three)), ["three", three], ("Three", three), ("three", *three), ("three", three, ()),
                    (three, "three"), ("three", (three,)), ("three", ("oil", ("bank",), "mill")), ("lots", three), three,
-                   ("three",), (("three", three),), ("three", ("oil", "oil", "mill")), ("three", ("oil", "mill", "mill")),
-                   ("three", ("oil", "oil", "oil")), ("lots", (("oil", "bank"), ("mill",))), ("lots", (THREE,)), ("lots", ()),
+                   ("three",), (("three", three),), ("three", ("oil", "oil", "mill")),
+                   ("three", ("oil", "mill", "mill")),
+                   ("three", ("oil", "oil", "oil")), ("lots", (("oil", "bank"), ("mill",))), ("lots", (THREE,)),
+                   ("lots", ()),
                    ("three", None), ("three", "oil bank mill"), {"three": three}, ("three", dict.fromkeys(three)))
 
     def test_near_to_lots(self):
         for book in (Book(TEXT).with_rivals("oil", "bank"), Book(text_of(EIGHT)), grouped_book(random.Random(7), 8)):
             told, lots = passed_on(book)
             self.shows(shows_passed_on, book, (told, lots), ("lots", tuple(map(tuple, map(list, lots)))))
-            self.hides(shows_passed_on, book, *[("lots", value) for value in changes_of(lots)], ["lots", lots], lots, ("lots",),
-                       ("lots", lots, ()), ("three", lots), ("Lots", lots), (lots, "lots"), (("lots", lots),), ("lots", *lots),
-                       ("three", book.clients[:3]), ("lots", None), (len(lots), lots), ("three", ()), {"lots": lots}, "lots")
+            self.hides(shows_passed_on, book, *[("lots", value) for value in changes_of(lots)], ["lots", lots], lots,
+                       ("lots",),
+                       ("lots", lots, ()), ("three", lots), ("Lots", lots), (lots, "lots"), (("lots", lots),),
+                       ("lots", *lots),
+                       ("three", book.clients[:3]), ("lots", None), (len(lots), lots), ("three", ()), {"lots": lots},
+                       "lots")
 
     def test_of_another_book(self):
         rng = random.Random(103)
@@ -259,7 +266,8 @@ class NeededTest(LotsChecks):
 
     def test_where_each_is_put_with_the_first_that_it_can_be_with_there_are_too_many(self):
         clients = ("a", "x", "b", "y", "c", "z", "d", "w")
-        pairs = [(one, other) for one, other in itertools.product("abcd", "xyzw") if "abcd".index(one) != "xyzw".index(other)]
+        pairs = [(one, other) for one, other in itertools.product("abcd",
+                                                                  "xyzw") if "abcd".index(one) != "xyzw".index(other)]
         self.same(self.right(Book(text_of(clients, pairs))), (2, (tuple("abcd"), tuple("xyzw"))))
 
     def test_so_many_people_hold_all_clients(self):
@@ -288,9 +296,12 @@ class NeededTest(LotsChecks):
             for value in changes_of(lots):
                 for many in (number - 1, number, number + 1):
                     self.assertIs(shows_needed(book, (many, value)), many == number and value in right, value)
-            self.hides(shows_needed, book, (number + 1, lots), (number - 1, lots), (-number, lots), [number, lots], lots,
-                       (str(number), lots), (lots, number), (number,), (number, lots, ()), (number, *lots), ((number,), lots),
-                       ((number, lots),), (None, lots), (number, None), ("lots", lots), {number: lots}, (number, number))
+            self.hides(shows_needed, book, (number + 1, lots), (number - 1, lots), (-number, lots), [number, lots],
+                       lots,
+                       (str(number), lots), (lots, number), (number,), (number, lots, ()), (number, *lots),
+                       ((number,), lots),
+                       ((number, lots),), (None, lots), (number, None), ("lots", lots), {number: lots},
+                       (number, number))
 
     def test_true_is_not_one(self):
         free = Book(text_of(THREE))
@@ -300,7 +311,8 @@ class NeededTest(LotsChecks):
     def test_a_lot_more_than_needed(self):
         book = Book(text_of(("oil", "mill"), ()))
         self.shows(shows_needed, book, (1, (("oil", "mill"),)))
-        self.hides(shows_needed, book, (2, (("oil",), ("mill",))), (1, (("oil",), ("mill",))), (2, (("oil", "mill"), ())),
+        self.hides(shows_needed, book, (2, (("oil",), ("mill",))), (1, (("oil",), ("mill",))),
+                   (2, (("oil", "mill"), ())),
                    (1, (("oil",),)), (0, ()), (1, ((),)), (2, (("oil", "mill"), ("mill",))), (1, (("mill", "oil"),)))
 
     def test_of_another_book(self):
@@ -308,14 +320,16 @@ class NeededTest(LotsChecks):
         self.hides(shows_needed, Book(TEXT.replace("oil", "rail")), needed(book))
         self.hides(shows_needed, book.without_rivals("oil", "mill"), needed(book))
         self.hides(shows_needed, book.with_rivals("oil", "bank").with_rivals("bank", "mill"), needed(book))
-        self.hides(shows_needed, book, (1, (THREE,)), (3, tuple((client,) for client in THREE)), (2, (("oil", "mill"), ("bank",))))
+        self.hides(shows_needed, book, (1, (THREE,)), (3, tuple((client,) for client in THREE)),
+                   (2, (("oil", "mill"), ("bank",))))
         self.shows(shows_needed, book, (2, (("oil", "bank"), ("mill",))), (2, (("oil",), ("bank", "mill"))))
 
     def test_odd_values(self):
         for book in (Book(TEXT), Book(text_of(THREE))):
             number, lots = needed(book)
             for value in [*odd_values(), (), deep((number, lots), 30), deep(lots, 29)]:
-                self.hides(shows_needed, book, value, (number, value), (value,), (number, lots, value), (number, (value,)),
+                self.hides(shows_needed, book, value, (number, value), (value,), (number, lots, value),
+                           (number, (value,)),
                            (number, (*lots, value)), (number, (value, *lots)), (number, (value, *lots[1:])),
                            (number, ((*lots[0], value), *lots[1:])))
                 if not (type(value) is int and value == number):

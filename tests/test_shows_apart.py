@@ -5,7 +5,8 @@ import itertools
 import random
 
 from tests.helpers import (
-    EIGHT, TEXT, Checks, deep, have_rivals, odd_values, rights_of, row_of, some_book, some_fence, text_of, told_closed, told_goes,
+    EIGHT, TEXT, Checks, deep, have_rivals, odd_values, rights_of, row_of, some_book, some_fence, text_of, told_closed,
+    told_goes,
     told_stand, two_rows,
 )
 from wallbooks.apart import apart, shows_apart
@@ -73,8 +74,10 @@ class TablesTest(ShowsChecks):
     def test_any_closed_table(self):
         fence = plain(Book(UNREAD))
         self.shows(fence, ("apart", (("oil",), ("oil", "bank", "mill"), ("mill",))),
-                   ("apart", (("oil", "bank"), THREE, ("mill",))), ("apart", (("oil", "bank"), THREE, ("bank", "mill"))))
-        self.hides(fence, ("apart", (("oil",), ("bank",), ("mill",))), ("apart", (("oil",), ("oil", "bank"), ("mill",))),
+                   ("apart", (("oil", "bank"), THREE, ("mill",))), ("apart",
+                                                                    (("oil", "bank"), THREE, ("bank", "mill"))))
+        self.hides(fence, ("apart", (("oil",), ("bank",), ("mill",))), ("apart",
+                                                                        (("oil",), ("oil", "bank"), ("mill",))),
                    ("apart", (("oil", "mill"), THREE, ("mill",))), ("apart", (THREE,) * 3))
 
     def test_of_eight_clients_without_rivals(self):
@@ -101,7 +104,8 @@ class TablesTest(ShowsChecks):
                    ("apart", (list(table[0]), *table[1:])), ("apart", (("bank", "oil"), *table[1:])),
                    ("apart", (("oil", "bank", "bank"), *table[1:])), ("apart", (("oil", "rail"), *table[1:])),
                    ("apart", (("oil",), *table[1:])), ("apart", ((), *table[1:])), ("apart", ("oil bank", *table[1:])),
-                   ("apart", dict(zip(THREE, table))), ("apart", table, ()), ("apart",), ("Apart", table), (table, "apart"),
+                   ("apart", dict(zip(THREE, table))), ("apart", table, ()), ("apart",), ("Apart", table),
+                   (table, "apart"),
                    ("round", table), ["apart", table], ("apart", (table,)), (("apart", table),), table, "apart",
                    ("apart", None, table), ("apart", ("oil", "bank", "mill")), ("only", table), {"apart": table})
 
@@ -137,7 +141,8 @@ class RoundsTest(ShowsChecks):
         self.shows(fence, ("round", STAFF, RUN), ("round", STAFF, (RUN[2], *RUN[:2], RUN[3])),
                    ("round", STAFF, (RUN[0], RUN[2], RUN[1], RUN[3])))
         exchanged = tuple((1 - person, word, client) for person, word, client in RUN)
-        mills = tuple((person, word, {"oil": "mill", "mill": "oil"}.get(client, client)) for person, word, client in RUN)
+        mills = tuple((person, word, {"oil": "mill", "mill": "oil"}.get(client, client)) for person, word,
+                      client in RUN)
         self.shows(fence, ("round", STAFF, exchanged), ("round", STAFF, mills))
         # Who looks at the papers first and at the rival's then has the meeting at the last deed, too.
         self.shows(fence, ("round", STAFF, (*RUN[:2], RUN[3], RUN[2])))
@@ -163,7 +168,8 @@ class RoundsTest(ShowsChecks):
         fence = plain(Book(f"{TEXT}\nkind eye\nlooks bank mill\nwrites"))
         self.shows(fence, ("round", STAFF, RUN), ("round", ("hand", "eye"), RUN))
         self.hides(fence, ("round", ("eye", "hand"), RUN), ("round", ("eye", "eye"), RUN))
-        for staff in ((*STAFF, "hand"), (*STAFF, "eye"), ("hand",), (), STAFF * 4, (*STAFF * 4, "hand"), list(STAFF), "hand",
+        for staff in ((*STAFF, "hand"), (*STAFF, "eye"), ("hand",), (), STAFF * 4, (*STAFF * 4, "hand"), list(STAFF),
+                      "hand",
                       ("hand", "pen"), ("hand", None), {"hand": "hand"}, ("Hand", "hand"), (STAFF, STAFF), None):
             self.hides(fence, ("round", staff, RUN))
 
@@ -201,7 +207,8 @@ class RoundsTest(ShowsChecks):
         self.hides(fence, ["round", STAFF, RUN], ("Round", STAFF, RUN), ("round", RUN, STAFF), ("round", STAFF),
                    ("round", STAFF, RUN, ()), ("round", (STAFF, RUN)), (STAFF, RUN), ("apart", STAFF, RUN), "round",
                    ("round",), ("round", STAFF, list(RUN)), ("round", STAFF, RUN, None), (("round", STAFF, RUN),),
-                   ("round", STAFF, ()), ("round", STAFF, RUN * 10), ("round", STAFF, RUN * 11), {"round": (STAFF, RUN)},
+                   ("round", STAFF, ()), ("round", STAFF, RUN * 10), ("round", STAFF, RUN * 11),
+                   {"round": (STAFF, RUN)},
                    ("meet", RUN), ("round", STAFF, dict(enumerate(RUN))), (True, STAFF, RUN), (None, STAFF, RUN))
 
     def test_odd_values(self):
@@ -209,7 +216,8 @@ class RoundsTest(ShowsChecks):
         for value in [*odd_values(), (), deep(("round", STAFF, RUN), 30), deep(RUN, 29)]:
             self.hides(fence, value, ("round", value, RUN), ("round", STAFF, value), (value, STAFF, RUN),
                        ("round", STAFF, (*RUN[:3], value)), ("round", ("hand", value), RUN), ("round", value, value),
-                       ("round", STAFF, (*RUN[:3], (1, "look", value))), ("round", STAFF, (*RUN[:3], (1, value, "bank"))),
+                       ("round", STAFF, (*RUN[:3], (1, "look", value))), ("round", STAFF,
+                                                                          (*RUN[:3], (1, value, "bank"))),
                        ("round", STAFF, RUN, value))
             if value != 1 or isinstance(value, bool):
                 self.hides(fence, ("round", STAFF, (*RUN[:3], (value, "look", "bank"))))
@@ -235,7 +243,8 @@ class BothTest(ShowsChecks):
             for fence, other in itertools.permutations(fences, 2):
                 told = apart(other)
                 if told[0] == "apart":
-                    wanted = len(told[1]) == len(fence.book) and told_closed(fence, dict(zip(fence.book.clients, told[1])))
+                    wanted = len(told[1]) == len(fence.book) and told_closed(fence,
+                                                                             dict(zip(fence.book.clients, told[1])))
                 elif apart(fence)[0] == "apart" or len(told[2]) != len(apart(fence)[2]) or fence.book != other.book:
                     wanted = False
                 else:

@@ -123,7 +123,8 @@ class GreatestTest(StaffsChecks):
     def test_no_rivals_and_all(self):
         free = Book(text_of(EIGHT, (), (("hand", EIGHT[:4], EIGHT[2:]), ("none", (), ()))))
         self.same([greatest(free, "hand"), greatest(free, "none")], [(EIGHT,), ((),)])
-        every = Book(text_of(EIGHT, itertools.combinations(EIGHT, 2), (("hand", EIGHT[:4], EIGHT[2:]), ("none", (), ()))))
+        every = Book(text_of(EIGHT, itertools.combinations(EIGHT, 2), (("hand", EIGHT[:4], EIGHT[2:]),
+                                                                       ("none", (), ()))))
         self.same([greatest(every, "hand"), greatest(every, "none")],
                   [tuple(sorted((client,) for client in EIGHT)), ((),)])
 
@@ -133,7 +134,8 @@ class GreatestTest(StaffsChecks):
 
     def test_no_kind(self):
         book = Book(TEXT)
-        for value in [*odd_values(), "oil", "bank", "look", ("hand",), ["hand"], {"hand": 1}, deep("hand", 30), "hand "]:
+        for value in [*odd_values(), "oil", "bank", "look", ("hand",), ["hand"], {"hand": 1}, deep("hand", 30),
+                      "hand "]:
             self.keeps(NoKind, value, greatest, book, value)
 
 
@@ -194,7 +196,8 @@ class GatheredTest(StaffsChecks):
         kinds = (("hand", clients, clients),)
         book = Book(text_of(clients, (("a", "x"), ("b", "x")), kinds))
         for people in (1, 2, 3):
-            self.same(self.right(book, ("hand",) * people)[0], "meet" if told_meets(book, ("hand",) * people) else "apart")
+            self.same(self.right(book, ("hand",) * people)[0], "meet" if told_meets(book,
+                                                                                    ("hand",) * people) else "apart")
 
     def test_a_row_of_four_people(self):
         clients = tuple("abcdx")
@@ -358,12 +361,17 @@ class ShowsTest(StaffsChecks):
         book = Book(TEXT)
         self.shows(book, TWO, ("meet", RUN), ("meet", RUN[2:3] + RUN[:2] + RUN[3:]))
         for at in range(4):
-            self.hides(book, TWO, ("meet", RUN[:at] + RUN[at + 1:]), ("meet", RUN[:at] + (list(RUN[at]),) + RUN[at + 1:]))
-            for deed in ((True, "look", "oil"), (2, "look", "oil"), (-1, "look", "oil"), (0, "Look", "oil"), (0, "look"),
+            self.hides(book, TWO, ("meet", RUN[:at] + RUN[at + 1:]), ("meet",
+                                                                      RUN[:at] + (list(RUN[at]),) + RUN[at + 1:]))
+            for deed in ((True, "look", "oil"), (2, "look", "oil"), (-1, "look", "oil"), (0, "Look", "oil"),
+                         (0, "look"),
                          (0, "look", "rail"), (0, "look", "oil", "oil"), (0, "look", ("oil",)), ()):
-                self.hides(book, TWO, ("meet", RUN[:at] + (deed,) + RUN[at:]), ("meet", RUN[:at] + (deed,) + RUN[at + 1:]))
-        self.hides(book, TWO, ("meet", list(RUN)), ["meet", RUN], ("Meet", RUN), ("round", RUN), ("round", TWO, RUN), RUN,
-                   ("meet",), ("meet", RUN, ()), ("meet", TWO, RUN), ("apart",), ("apart", RUN), ("meet", ()), ("meet", None),
+                self.hides(book, TWO, ("meet", RUN[:at] + (deed,) + RUN[at:]),
+                           ("meet", RUN[:at] + (deed,) + RUN[at + 1:]))
+        self.hides(book, TWO, ("meet", list(RUN)), ["meet", RUN], ("Meet", RUN), ("round", RUN), ("round", TWO, RUN),
+                   RUN,
+                   ("meet",), ("meet", RUN, ()), ("meet", TWO, RUN), ("apart",), ("apart", RUN), ("meet", ()),
+                   ("meet", None),
                    (RUN, "meet"), (("meet", RUN),), ("meet", (RUN,)), {"meet": RUN}, "meet", (), ("meet", RUN[::-1]),
                    ("meet", RUN, None), ("apart", ()), ("meet", (RUN[1], RUN[0], *RUN[2:])))
 
@@ -371,8 +379,10 @@ class ShowsTest(StaffsChecks):
         book = Book(TEXT)
         staff = ("hand",)
         self.shows(book, staff, ("apart",))
-        self.hides(book, staff, ("meet", RUN), ("apart", ()), ["apart"], "apart", ("Apart",), (("apart",),), ("apart", "apart"),
-                   ("meet", ()), ("meet", ((0, "look", "oil"),)), ("meet", ((0, "look", "oil"), (0, "look", "mill"))), (), None,
+        self.hides(book, staff, ("meet", RUN), ("apart", ()), ["apart"], "apart", ("Apart",), (("apart",),),
+                   ("apart", "apart"),
+                   ("meet", ()), ("meet", ((0, "look", "oil"),)), ("meet", ((0, "look", "oil"), (0, "look", "mill"))),
+                   (), None,
                    {"apart": ()}, ("apart", None), ("meet",))
 
     def test_of_another_staff_or_book(self):
@@ -395,7 +405,8 @@ class ShowsTest(StaffsChecks):
         book = Book(TEXT)
         for staff in (TWO, ("hand",)):
             for value in [*odd_values(), (), deep(("meet", RUN), 30), deep(RUN, 29), deep(("apart",), 30)]:
-                self.hides(book, staff, value, ("meet", value), ("apart", value), (value,), (value, RUN), ("meet", RUN, value),
+                self.hides(book, staff, value, ("meet", value), ("apart", value), (value,), (value, RUN),
+                           ("meet", RUN, value),
                            ("meet", (value,)), ("meet", (*RUN, value)), ("meet", (*RUN, (1, value, "bank"))),
                            ("meet", (*RUN, (1, "look", value))))
                 if value not in (0, 1) or isinstance(value, bool):
