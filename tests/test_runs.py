@@ -311,6 +311,17 @@ class WrongTest(Checks):
                 for call, where in self.calls:
                     self.keeps(BadRun, value, call, where, ("hand", "pen", "eye"), value)
 
+    def test_deeds_that_are_none_where_all_have_all_rights(self):
+        book = Book(TEXT)
+        parts = [(person, word, client) for person in (True, False, -1, -2, -3, 2, "0", None, (0,))
+                 for word in ("look", "write") for client in book.clients]
+        parts += [(person, word, client) for word in ("Look", "looks", "writes", "", None, ("write",), ["look"], True)
+                  for person in (0, 1) for client in book.clients]
+        for deed in parts:
+            for call, where in ((stand, book), (meeting, book), (barred, plain(book)), (barred_by_facts, book)):
+                for value in ((deed,), (*RUN, deed)):
+                    self.keeps(BadRun, value, call, where, STAFF, value)
+
     def test_kinds_have_just_their_rights(self):
         staff = self.book.kinds
         for person, kind in enumerate(staff):
